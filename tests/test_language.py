@@ -1,0 +1,166 @@
+"""Those rules of LANGUAGE.md that can be seen from a file's text, for each file of the package."""
+
+import ast
+import builtins
+import pathlib
+import re
+import unittest
+
+PACKAGE = pathlib.Path(__file__).resolve().parent.parent / "beamheads"
+LIBRARY = {"heapq": {"heappush", "heappop", "heapify", "heapreplace", "heappushpop"},
+           "math": {"gcd", "lcm", "isqrt", "comb", "perm", "factorial"},
+           "itertools": {"product", "combinations", "permutations"}}
+BUILTINS = set("""len range enumerate zip min max sum abs sorted reversed int str bool bytes list tuple dict set
+    frozenset isinstance ord repr any all divmod iter next map super property staticmethod classmethod Exception
+    ValueError TypeError KeyError IndexError LookupError ZeroDivisionError ArithmeticError OverflowError RuntimeError
+    NotImplementedError AttributeError StopIteration NotImplemented""".split())
+METHODS = set("""append clear copy count endswith extend find get index insert isalnum isalpha isdigit islower isspace
+    isupper items join keys ljust lower lstrip partition pop remove replace reverse rfind rjust rpartition rsplit rstrip
+    setdefault split splitlines startswith strip update upper values zfill bit_length add discard __init__""".split())
+SPECIAL = set("""__init__ __eq__ __repr__ __str__ __len__ __enter__ __exit__ __call__ __iter__ __contains__ __add__
+    """.split())
+MODIFIERS = {"append", "clear", "extend", "insert", "pop", "remove", "reverse", "setdefault", "update", "sort"}
+ITERATED = {"zip", "enumerate", "reversed", "range"}
+TAKERS = {"list", "tuple", "dict", "sorted", "sum", "any", "all", "enumerate", "zip", "min", "max", "join"}
+WORDS = re.compile(r"\b(typing|typing_extensions|enum|Enum|IntEnum|Flag|Generic|Protocol|ABC|ABCMeta|namedtuple|"
+                   r"NamedTuple|TypedDict|abstractmethod|_wall\w*)\b|dataclass|overload|contextmanager")
+
+
+def functions_of(tree):
+    return [node for node in ast.walk(tree) if isinstance(node, (ast.FunctionDef, ast.Lambda))]
+
+
+def bound_names(function):
+    """The parameters and local variables of a function."""
+    found = [part.arg for part in ast.walk(function.args) if isinstance(part, ast.arg)]
+    body = function.body if isinstance(function.body, list) else [function.body]
+    for statement in body:
+        for node in ast.walk(statement):
+            if isinstance(node, ast.Name) and isinstance(node.ctx, ast.Store):
+                found.append(node.id)
+            elif isinstance(node, ast.FunctionDef):
+                found.append(node.name)
+    return found
+
+
+class TestLanguage(unittest.TestCase):
+
+    @classmethod
+    def setUpClass(cls):
+        cls.texts = {path.stem: path.read_text("utf-8") for path in sorted(PACKAGE.glob("*.py"))}
+        cls.trees = {name: ast.parse(text) for name, text in cls.texts.items()}
+        classes = [node for tree in cls.trees.values() for node in tree.body if isinstance(node, ast.ClassDef)]
+        cls.methods = {node.name for part in classes for node in part.body if isinstance(node, ast.FunctionDef)}
+
+    def each(self, *kinds):
+        for name, tree in self.trees.items():
+            for node in ast.walk(tree):
+                if isinstance(node, kinds):
+                    with self.subTest(file=name, line=getattr(node, "lineno", 0)):
+                        yield node
+
+    def test_files(self):
+        for path in PACKAGE.iterdir():
+            if path.name != "__pycache__":
+                self.assertRegex(path.name, r"^([a-z][a-z0-9_]*|__init__|__main__)\.py$")
+        for name, text in self.texts.items():
+            lines = text.split("\n")
+            self.assertLessEqual(len(lines) - 1, 399, name)
+            self.assertLessEqual(max(len(line) for line in lines), 120, name)
+            self.assertRegex(text, r"\A[\n -~]*\Z", name)
+            self.assertIsNone(WORDS.search(text), name)
+
+    def test_imports(self):
+        for name, tree in self.trees.items():
+            for node in ast.walk(tree):
+                self.assertNotIsInstance(node, ast.Import, name)
+                if isinstance(node, ast.ImportFrom) and node.module in LIBRARY:
+                    self.assertTrue({part.name for part in node.names} <= LIBRARY[node.module], name)
+                elif isinstance(node, ast.ImportFrom):
+                    folder, _, file = node.module.partition(".")
+                    self.assertEqual((folder, node.level), ("beamheads", 0), name)
+                    defined = [part.name for part in self.trees[file].body if hasattr(part, "name")]
+                    self.assertTrue({part.name for part in node.names} <= set(defined), name)
+
+    def test_no_import_leads_back(self):
+        imported = {name: [node.module.partition(".")[2] for node in tree.body if isinstance(node, ast.ImportFrom)]
+                    for name, tree in self.trees.items()}
+        settled = set(LIBRARY)
+        for _ in imported:
+            settled |= {name for name, others in imported.items() if settled.issuperset(filter(None, others))}
+        self.assertEqual(set(imported) - settled, set())
+
+    def test_module_level(self):
+        for name, tree in self.trees.items():
+            for node in tree.body:
+                self.assertIsInstance(node, (ast.Expr, ast.ImportFrom, ast.FunctionDef, ast.ClassDef, ast.Assign), name)
+                if isinstance(node, ast.Expr):
+                    self.assertIsInstance(node.value, ast.Constant, name)
+
+    def test_functions(self):
+        for node in self.each(ast.FunctionDef):
+            self.assertLessEqual(node.end_lineno - node.lineno + 1, 40)
+            self.assertTrue(not node.name.startswith("__") or node.name in SPECIAL)
+            self.assertIsNone(node.returns)
+            for decorator in node.decorator_list:
+                name = decorator.attr if isinstance(decorator, ast.Attribute) else decorator.id
+                self.assertIn(name, {"property", "setter", "staticmethod", "classmethod"})
+
+    def test_statements_and_expressions(self):
+        barred = (ast.AnnAssign, ast.Global, ast.AsyncFunctionDef, ast.Await, ast.Div, ast.TryStar)
+        for node in self.each(*barred):
+            self.fail(type(node).__name__)
+        for node in self.each(ast.Is, ast.IsNot, ast.Compare):
+            if isinstance(node, ast.Compare) and isinstance(node.ops[0], (ast.Is, ast.IsNot)):
+                self.assertIsInstance(node.comparators[0], ast.Constant)
+        for node in self.each(ast.Constant):
+            self.assertNotIsInstance(node.value, (float, complex))
+            self.assertFalse(isinstance(node.value, str) and "%" in node.value)
+
+    def test_names(self):
+        own = {builtin for builtin in dir(builtins)}
+        for name, tree in self.trees.items():
+            taken = {part.name for part in tree.body if isinstance(part, ast.ClassDef)}
+            taken |= {part.name for node in tree.body if isinstance(node, ast.ImportFrom) for part in node.names}
+            for function in functions_of(tree):
+                self.assertEqual(set(bound_names(function)) & (taken | own), set(), name)
+            stored = [node.id for node in ast.walk(tree) if isinstance(node, ast.Name) and node.id in own]
+            self.assertEqual(set(stored) - BUILTINS, set(), name)
+
+    def test_called_methods(self):
+        for node in self.each(ast.Call):
+            if isinstance(node.func, ast.Attribute):
+                self.assertIn(node.func.attr, METHODS | self.methods)
+
+    def test_iterated_at_once(self):
+        for name, tree in self.trees.items():
+            allowed = []
+            for node in ast.walk(tree):
+                if isinstance(node, (ast.For, ast.comprehension)):
+                    allowed.append(node.iter)
+                elif isinstance(node, ast.Call) and node.args:
+                    called = node.func.id if isinstance(node.func, ast.Name) else getattr(node.func, "attr", "")
+                    if called in TAKERS:
+                        allowed.append(node.args[0])
+            for node in ast.walk(tree):
+                if isinstance(node, ast.Call) and isinstance(node.func, ast.Name) and node.func.id in ITERATED:
+                    self.assertTrue(node in allowed, (name, node.lineno))
+                if isinstance(node, ast.GeneratorExp):
+                    self.fail(f"a generator expression: {name}, {node.lineno}")
+
+    def test_operators_and_properties_change_nothing(self):
+        checked = SPECIAL - {"__init__", "__enter__", "__exit__", "__call__"}
+        for node in self.each(ast.FunctionDef):
+            names = [getattr(decorator, "id", "") for decorator in node.decorator_list]
+            if node.name not in checked and "property" not in names:
+                continue
+            for part in ast.walk(node):
+                self.assertNotIsInstance(part, (ast.AugAssign, ast.Delete))
+                if isinstance(part, (ast.Attribute, ast.Subscript)):
+                    self.assertIsInstance(part.ctx, ast.Load)
+                if isinstance(part, ast.Call) and isinstance(part.func, ast.Attribute):
+                    self.assertNotIn(part.func.attr, MODIFIERS)
+
+
+if __name__ == "__main__":
+    unittest.main()

@@ -6,10 +6,9 @@ class BeamError(ValueError):
 
 
 class InvalidName(BeamError):
-    """A value that is no name."""
+    """A value that is no name (one to eight letters from a to z)."""
 
     def __init__(self, value):
-        super().__init__("not a name of one to eight letters from a to z")
         self.value = value
 
 
@@ -17,7 +16,6 @@ class InvalidNumber(BeamError):
     """A value that is no integer, or out of its bounds."""
 
     def __init__(self, value):
-        super().__init__("not an integer, or out of bounds")
         self.value = value
 
 
@@ -25,7 +23,6 @@ class InvalidKinds(BeamError):
     """Kinds of work that no head can have."""
 
     def __init__(self, position):
-        super().__init__("not one to four different kinds of work")
         self.position = position
 
 
@@ -33,7 +30,6 @@ class InvalidChanges(BeamError):
     """Changes of speed that no head can have."""
 
     def __init__(self, position):
-        super().__init__("not up to three changes with ascending ticks")
         self.position = position
 
 
@@ -41,7 +37,6 @@ class InvalidHead(BeamError):
     """A value that is no Head."""
 
     def __init__(self, value):
-        super().__init__("not a head")
         self.value = value
 
 
@@ -49,7 +44,6 @@ class InvalidHeads(BeamError):
     """Heads that cannot hang on one beam."""
 
     def __init__(self, position):
-        super().__init__("not one to five heads with different names")
         self.position = position
 
 
@@ -57,7 +51,6 @@ class InvalidBeam(BeamError):
     """A value that is no Beam."""
 
     def __init__(self, value):
-        super().__init__("not a beam")
         self.value = value
 
 
@@ -65,7 +58,6 @@ class InvalidPlaces(BeamError):
     """A value that is no right tuple of places."""
 
     def __init__(self, value):
-        super().__init__("not right places")
         self.value = value
 
 
@@ -73,7 +65,6 @@ class InvalidLegs(BeamError):
     """Legs or corners that no line can have."""
 
     def __init__(self, position):
-        super().__init__("not the legs or corners of a line")
         self.position = position
 
 
@@ -81,7 +72,6 @@ class InvalidLine(BeamError):
     """A value that is no Line, or none that fits."""
 
     def __init__(self, value):
-        super().__init__("not a line that fits")
         self.value = value
 
 
@@ -89,7 +79,6 @@ class InvalidJob(BeamError):
     """A value that is no Job."""
 
     def __init__(self, value):
-        super().__init__("not a job")
         self.value = value
 
 
@@ -97,7 +86,6 @@ class InvalidJobs(BeamError):
     """Jobs that cannot stand in one book."""
 
     def __init__(self, position):
-        super().__init__("not jobs with different names")
         self.position = position
 
 
@@ -105,7 +93,6 @@ class InvalidTurn(BeamError):
     """A head or a job that breaks the period of a turn book."""
 
     def __init__(self, name):
-        super().__init__("does not fit into the period")
         self.name = name
 
 
@@ -113,7 +100,6 @@ class InvalidAssignment(BeamError):
     """A value that is no assignment."""
 
     def __init__(self, value):
-        super().__init__("not an assignment")
         self.value = value
 
 
@@ -121,7 +107,6 @@ class InvalidLog(BeamError):
     """A value that is no log."""
 
     def __init__(self, position):
-        super().__init__("not a log")
         self.position = position
 
 
@@ -129,7 +114,6 @@ class InvalidPrices(BeamError):
     """A value that is no prices."""
 
     def __init__(self, name):
-        super().__init__("not prices of all jobs by all heads")
         self.name = name
 
 
@@ -137,7 +121,6 @@ class InvalidText(BeamError):
     """A value that is no text of the kind that is read."""
 
     def __init__(self, line):
-        super().__init__("not a text that can be read")
         self.line = line
 
 
@@ -145,7 +128,6 @@ class InvalidCommand(BeamError):
     """A value that is no command."""
 
     def __init__(self, value):
-        super().__init__("not a command")
         self.value = value
 
 
@@ -157,7 +139,6 @@ class UnknownHead(MissingError):
     """A name that no head has."""
 
     def __init__(self, name):
-        super().__init__("no head has this name")
         self.name = name
 
 
@@ -165,7 +146,6 @@ class UnknownNumber(MissingError):
     """A number that no head has."""
 
     def __init__(self, value):
-        super().__init__("no head has this number")
         self.value = value
 
 
@@ -173,7 +153,6 @@ class UnknownJob(MissingError):
     """A name that no job has."""
 
     def __init__(self, name):
-        super().__init__("no job has this name")
         self.name = name
 
 
@@ -181,7 +160,6 @@ class NoTick(MissingError):
     """A tick that a line does not have."""
 
     def __init__(self, tick):
-        super().__init__("the line does not have this tick")
         self.tick = tick
 
 
@@ -193,7 +171,6 @@ class BeamTooShort(StateError):
     """A beam whose heads need more than its length."""
 
     def __init__(self, missing):
-        super().__init__("the beam is too short for its heads")
         self.missing = missing
 
 
@@ -201,7 +178,6 @@ class NameTaken(StateError):
     """A name that another job has."""
 
     def __init__(self, name):
-        super().__init__("another job has this name")
         self.name = name
 
 
@@ -209,7 +185,6 @@ class SameJob(StateError):
     """One job where two different ones are needed."""
 
     def __init__(self, name):
-        super().__init__("this is the same job")
         self.name = name
 
 
@@ -225,7 +200,6 @@ class OutOfRange(StateError):
     """A place that the head cannot be at."""
 
     def __init__(self, place):
-        super().__init__("the place is not in the range of the head")
         self.place = place
 
 
@@ -233,7 +207,6 @@ class Refused(StateError):
     """A deed after which there would be no assignment."""
 
     def __init__(self, chain):
-        super().__init__("the book would have no assignment")
         self.chain = chain
 
 
@@ -249,6 +222,5 @@ class TooMany(LimitError):
     """More of a kind than the limit allows."""
 
     def __init__(self, kind, limit):
-        super().__init__("more than the limit")
         self.kind = kind
         self.limit = limit

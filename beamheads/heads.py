@@ -83,8 +83,7 @@ class Head:
                 and self._speed == other._speed and self._changes == other._changes)
 
     def __repr__(self):
-        reaches = f"{self._left}, {self._right}"
-        return f"Head({self._name!r}, {reaches}, {self._kinds}, {self._speed}, {self._changes})"
+        return f"Head({self._name!r}, {self._left}, {self._right}, {self._kinds}, {self._speed}, {self._changes})"
 
     def speed_at(self, step):
         check_integer(step)

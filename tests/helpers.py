@@ -8,11 +8,26 @@ from beamheads.heads import Head
 
 FAR = 10 ** 39
 
-NO_INTEGERS = [True, False, None, "", "1", b"1", [], [1], (), (1,), {}, {1: 1}, {1}, object(), int, len]
+
+class Anything:
+    """A value that says of itself that it is equal to each other one."""
+
+    def __eq__(self, other):
+        return True
+
+    def __hash__(self):
+        return hash("a")
+
+
+ANYTHING = Anything()
+
+NO_INTEGERS = [True, False, None, "", "1", b"1", [], [1], (), (1,), {}, {1: 1}, {1}, object(), int, len,
+               ANYTHING]
 NO_COUNTS = NO_INTEGERS + [-1, -FAR]
 NO_POSITIVES = NO_COUNTS + [0]
 NO_NAMES = ["", "abcdefghi", "A", "aB", "a b", "a1", "1", "a_", "a\n", " a", "a ", "\u00e9", "`", "{", "a{", "`a",
-            0, 1, True, False, None, b"a", [], ["a"], (), ("a",), {}, {"a": 1}, {"a"}, object(), str]
+            0, 1, True, False, None, b"a", [], ["a"], (), ("a",), {}, {"a": 1}, {"a"}, object(), str,
+            ANYTHING]
 NAMES = ["a", "z", "az", "abcdefgh", "zzzzzzzz"]
 NO_LISTS = [None, True, False, 0, 1, "", "ab", b"ab", {}, {"ab": 1}, set(), {"ab"}, object(), list]
 

@@ -34,6 +34,15 @@ LOSSES = '''
 [30, None]
 '''
 
+LINES = '''
+>>> from beamheads.lines import Line
+>>> line = Line(3, 10, [(2, 5), (1, 5), (4, 0)])
+>>> [line.last, line.legs, line.at(5), line.corners(), 11 in line, line.backward()]
+[10, ((3, 5), (4, 0)), 20, [(3, 10), (6, 25), (10, 25)], False, Line(-10, 25, ((4, 0), (3, -5)))]
+>>> Line.through((0, 4), (2, 0)) + Line.stay(2, 0, ticks=5)
+Line(0, 4, ((2, -2), (5, 0)))
+'''
+
 
 class TestExamples(unittest.TestCase):
 
@@ -52,6 +61,9 @@ class TestExamples(unittest.TestCase):
 
     def test_losses(self):
         self.run_example("losses", LOSSES)
+
+    def test_lines(self):
+        self.run_example("lines", LINES)
 
     def test_readme(self):
         path = pathlib.Path(__file__).resolve().parent.parent / "README.md"

@@ -8,6 +8,7 @@ FUNCTIONS = {
     "losses": [
         "loss(beam, i, begin, j, end)", "least_route(beam, i, begin, j, end)",
         "route_sum(beam, i, begin, j, end, value)"],
+    "moving": ["can_move(beam, tick, places, later, others)", "earliest_arrival(beam, tick, places, others)"],
 }
 
 CLASSES = {
@@ -27,6 +28,34 @@ CLASSES = {
             "later(self, ticks)", "moved(self, places)", "wider(self, more)", "scaled(self, *, parts=1, speed=1)"],
         "properties": ["left", "right", "room", "heads"],
         "values": {"MOST_HEADS": 5}},
+    "lines.Line": {
+        "methods": [
+            "__init__(self, tick, place, legs=())", "__eq__(self, other)", "__repr__(self)", "at(self, tick)",
+            "__contains__(self, tick)", "corners(self)", "__add__(self, other)", "later(self, ticks)",
+            "moved(self, places)", "mirrored(self)", "backward(self)", "scaled(self, *, parts=1)"],
+        "class methods": ["through(cls, *corners)"],
+        "static methods": ["stay(tick, place, *, ticks=0)"],
+        "properties": ["first", "last", "place", "legs", "is_moment", "lowest", "highest"],
+        "values": {"MOST_LEGS": 3}},
+    "jobs.Job": {
+        "methods": [
+            "__init__(self, name, kind, line)", "__eq__(self, other)", "__repr__(self)", "on(self, line)",
+            "later(self, ticks)", "moved(self, places)", "mirrored(self)", "backward(self)",
+            "scaled(self, *, parts=1)"],
+        "properties": ["name", "kind", "line"],
+        "values": {}},
+    "books.Plan": {
+        "methods": ["names(self)", "job(self, name)", "__len__(self)", "__contains__(self, name)", "summary(self)"],
+        "properties": ["beam", "jobs"],
+        "values": {}},
+    "books.Book": {
+        "methods": [
+            "__init__(self, beam, *jobs)", "__eq__(self, other)", "__repr__(self)", "summary(self)",
+            "shared(self, one, other)", "with_job(self, job)", "without(self, name)", "with_beam(self, beam)",
+            "mirrored(self)", "backward(self)", "later(self, ticks)", "moved(self, places)", "wider(self, more)",
+            "scaled(self, *, parts=1, speed=1)"],
+        "properties": [],
+        "values": {"MOST_JOBS": 8}},
 }
 
 
@@ -66,6 +95,10 @@ class TestInterface(unittest.TestCase):
                 self.assertIsInstance(found[attribute], property)
             for value, wanted in parts["values"].items():
                 self.assertEqual(repr(found[value]), repr(wanted))
+
+    def test_base_of_book(self):
+        books = importlib.import_module("beamheads.books")
+        self.assertEqual(books.Book.__bases__, (books.Plan,))
 
 
 if __name__ == "__main__":

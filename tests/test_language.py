@@ -148,6 +148,15 @@ class TestLanguage(unittest.TestCase):
                 if isinstance(node, ast.GeneratorExp):
                     self.fail(f"a generator expression: {name}, {node.lineno}")
 
+    def test_special_methods_assign_lists_alone(self):
+        for node in self.each(ast.FunctionDef):
+            if node.name in ("__eq__", "__repr__", "__str__", "__len__"):
+                for part in ast.walk(node):
+                    self.assertFalse(node.name != "__eq__" and isinstance(part, ast.Add))
+                    if isinstance(part, ast.Assign):
+                        self.assertIsInstance(part.value, (ast.List, ast.ListComp))
+                    self.assertNotIsInstance(part, ast.NamedExpr)
+
     def test_operators_and_properties_change_nothing(self):
         checked = SPECIAL - {"__init__", "__enter__", "__exit__", "__call__"}
         for node in self.each(ast.FunctionDef):

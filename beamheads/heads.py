@@ -57,6 +57,11 @@ class Head:
     def name(self):
         return self._name
 
+    @name.setter
+    def name(self, value):
+        # Errors have attributes of this name; what is assigned somewhere needs a setter in every class.
+        raise AttributeError("a head does not change")
+
     @property
     def left(self):
         return self._left

@@ -21,13 +21,26 @@ class Job:
     def name(self):
         return self._name
 
+    @name.setter
+    def name(self, value):
+        # Errors have attributes of this name; what is assigned somewhere needs a setter in every class.
+        raise AttributeError("a job does not change")
+
     @property
     def kind(self):
         return self._kind
 
+    @kind.setter
+    def kind(self, value):
+        raise AttributeError("a job does not change")
+
     @property
     def line(self):
         return self._line
+
+    @line.setter
+    def line(self, value):
+        raise AttributeError("a job does not change")
 
     def __eq__(self, other):
         return (isinstance(other, Job) and self._name == other._name and self._kind == other._kind

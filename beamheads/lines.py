@@ -91,6 +91,11 @@ class Line:
     def place(self):
         return self._place
 
+    @place.setter
+    def place(self, value):
+        # Errors have attributes of this name; what is assigned somewhere needs a setter in every class.
+        raise AttributeError("a line does not change")
+
     @property
     def legs(self):
         return self._legs

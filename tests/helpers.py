@@ -43,6 +43,14 @@ class ErrorCase(unittest.TestCase):
         self.assertEqual(repr(vars(caught.exception)), repr(vars(error)))
         self.assertEqual(repr((args, kwargs)), before)
 
+    def refuses(self, whole, *names):
+        """None of these properties of the object can be assigned, and the object stays as it was."""
+        before = repr(whole)
+        for name in names:
+            for value in (None, 1, "a", (), getattr(whole, name)):
+                self.assertRaises(AttributeError, setattr, whole, name, value)
+        self.assertEqual(repr(whole), before)
+
     def same(self, found, wanted):
         """Equal, and of the same kinds of values (True is not 1, and a list is no tuple)."""
         self.assertEqual(found, wanted)

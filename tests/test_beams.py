@@ -28,8 +28,7 @@ class TestParts(ErrorCase):
         self.same([Beam.MOST_HEADS, BEAM.MOST_HEADS], [5, 5])
 
     def test_properties_cannot_be_assigned(self):
-        for name in ("left", "right", "room", "heads"):
-            self.assertRaises(AttributeError, setattr, BEAM, name, 5)
+        self.refuses(BEAM, "left", "right", "room", "heads")
 
     def test_names(self):
         self.same(["a" in BEAM, "b" in BEAM, "c" in BEAM, "d" in BEAM], [True, True, True, False])

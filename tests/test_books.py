@@ -34,8 +34,7 @@ class TestParts(ErrorCase):
         self.assertIsInstance(BOOK, Plan)
 
     def test_properties_cannot_be_assigned(self):
-        for name in ("beam", "jobs"):
-            self.assertRaises(AttributeError, setattr, BOOK, name, ())
+        self.refuses(BOOK, "beam", "jobs")
 
     def test_long_names_are_sorted_as_strings(self):
         jobs = [Job(name, "cut", Line(0, 0)) for name in ["b", "ab", "aa", "abc", "a", "zzzzzzzz"]]

@@ -20,8 +20,7 @@ class TestParts(ErrorCase):
                   ["b", 1, 1, ("cut",), 0, ()])
 
     def test_properties_cannot_be_assigned(self):
-        for name in ("name", "left", "right", "kinds", "speed", "changes"):
-            self.assertRaises(AttributeError, setattr, HEAD, name, 5)
+        self.refuses(HEAD, "name", "left", "right", "kinds", "speed", "changes")
 
     def test_bounds_that_are_within(self):
         for name in NAMES:

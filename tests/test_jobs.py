@@ -18,8 +18,7 @@ class TestParts(ErrorCase):
             self.same([Job(name, "a", LINE).name, Job("a", name, LINE).kind], [name, name])
 
     def test_properties_cannot_be_assigned(self):
-        for name in ("name", "kind", "line"):
-            self.assertRaises(AttributeError, setattr, JOB, name, "a")
+        self.refuses(JOB, "name", "kind", "line")
 
     def test_arguments_by_name(self):
         self.same(Job(line=LINE, kind="cut", name="x"), JOB)

@@ -43,6 +43,34 @@ def bound_names(function):
     return found
 
 
+def decorated(part, word):
+    """Whether a part of a class has this decorator: property itself, or setter as in @name.setter."""
+    found = getattr(part, "decorator_list", [])
+    return word in [getattr(decorator, "attr", getattr(decorator, "id", "")) for decorator in found]
+
+
+def unset_properties(trees):
+    """The names of the properties that have no setter in some class."""
+    found = set()
+    for tree in trees.values():
+        for node in ast.walk(tree):
+            if isinstance(node, ast.ClassDef):
+                found |= ({part.name for part in node.body if decorated(part, "property")}
+                          - {part.name for part in node.body if decorated(part, "setter")})
+    return found
+
+
+def assigned_attributes(trees):
+    """Tuples (file, line, name) of all attributes that are assigned, in whatever statement."""
+    return [(file, node.lineno, node.attr) for file, tree in trees.items() for node in ast.walk(tree)
+            if isinstance(node, ast.Attribute) and isinstance(node.ctx, ast.Store)]
+
+
+def barred_assignments(trees):
+    """Where an attribute is assigned whose name is a property without a setter in some class."""
+    return [found for found in assigned_attributes(trees) if found[2] in unset_properties(trees)]
+
+
 class TestLanguage(unittest.TestCase):
 
     @classmethod
@@ -169,6 +197,35 @@ class TestLanguage(unittest.TestCase):
                     self.assertIsInstance(part.ctx, ast.Load)
                 if isinstance(part, ast.Call) and isinstance(part.func, ast.Attribute):
                     self.assertNotIn(part.func.attr, MODIFIERS)
+
+    def test_properties_that_are_assigned_have_setters(self):
+        self.assertEqual(barred_assignments(self.trees), [])
+
+
+class TestBarredAssignments(unittest.TestCase):
+    """That the check of assigned properties finds what it looks for."""
+
+    GETTER = "class Box:\n    @property\n    def name(self):\n        return self._name\n"
+    SETTER = "    @name.setter\n    def name(self, value):\n        self._name = value\n"
+
+    def found(self, *texts):
+        return barred_assignments({f"file{at}": ast.parse(text) for at, text in enumerate(texts)})
+
+    def test_each_way_to_assign(self):
+        for line in ["bag.name = 1", "bag.name += 1", "bag.name, k = 1, 2", "k = bag.name = 1", "bag.name: int = 1",
+                     "(k, [bag.name, *rest]) = xs", "for bag.name in xs:\n    pass",
+                     "def f(self):\n    self.name = 1"]:
+            at = 2 if line.startswith("def") else 1
+            self.assertEqual(self.found(self.GETTER, line), [("file1", at, "name")])
+            self.assertEqual(self.found(line, self.GETTER), [("file0", at, "name")])
+            self.assertEqual(self.found(self.GETTER + self.SETTER, line), [])
+            self.assertEqual(self.found(self.GETTER + self.SETTER, line, self.GETTER.replace("Box", "Bag")),
+                             [("file1", at, "name")])
+
+    def test_what_is_only_read_or_has_another_name(self):
+        for line in ["k = bag.name", "bag.name.other = 1", "bag.name[0] = 1", "name = 1", "bag._name = 1",
+                     "bag.names = 1"]:
+            self.assertEqual(self.found(self.GETTER, line), [])
 
 
 if __name__ == "__main__":

@@ -47,8 +47,7 @@ class TestParts(ErrorCase):
         self.same([Line.MOST_LEGS, LINE.MOST_LEGS], [3, 3])
 
     def test_properties_cannot_be_assigned(self):
-        for name in ("first", "last", "place", "legs", "is_moment", "lowest", "highest"):
-            self.assertRaises(AttributeError, setattr, LINE, name, 5)
+        self.refuses(LINE, "first", "last", "place", "legs", "is_moment", "lowest", "highest")
 
     def test_legs_of_equal_speed_are_one(self):
         for legs, left in [

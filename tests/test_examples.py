@@ -43,6 +43,55 @@ LINES = '''
 Line(0, 4, ((2, -2), (5, 0)))
 '''
 
+PAIRS = '''
+>>> from beamheads.beams import Beam
+>>> from beamheads.books import Book
+>>> from beamheads.heads import Head
+>>> from beamheads.jobs import Job
+>>> from beamheads.lines import Line
+>>> from beamheads.pairs import are_compatible, excess, misfit
+>>> beam = Beam(0, 20, Head("a", 1, 1, ["cut"], 2), Head("b", 1, 1, ["cut", "saw"], 1))
+>>> book = Book(beam, Job("x", "cut", Line(0, 10)), Job("y", "saw", Line(3, 9, [(2, 1)])))
+>>> [excess(book, "x", 1, "y", 2), excess(book, "y", 2, "y", 2), misfit(book, "y", 1), misfit(book, "y", 2)]
+[0, 0, 'kind', None]
+>>> [are_compatible(book, "x", 1, "y", 2), are_compatible(book, "x", 2, "y", 2), are_compatible(book, "x", 2, "y", 1)]
+[True, True, True]
+>>> twice = book.with_job(Job("z", "cut", Line(0, 10)))
+>>> [are_compatible(twice, "x", 1, "z", 1), are_compatible(twice, "x", 1, "z", 2)]
+[True, False]
+'''
+
+LINKS = '''
+>>> from beamheads.beams import Beam
+>>> from beamheads.books import Book
+>>> from beamheads.heads import Head
+>>> from beamheads.jobs import Job
+>>> from beamheads.lines import Line
+>>> from beamheads.links import link_word, pushed_to
+>>> beam = Beam(0, 40, Head("a", 5, 5, ["cut"], 1), Head("b", 5, 5, ["cut"], 0), Head("c", 5, 5, ["cut"], 1))
+>>> book = Book(beam, Job("x", "cut", Line(0, 20)), Job("y", "cut", Line(10, 23)))
+>>> [pushed_to(book, "x", 1, "y"), pushed_to(book, "x", 2, "y"), link_word(book, ("x", 2), ("y", 2))]
+[1, 3, 'push']
+>>> [link_word(book, ("x", 1), ("x", 2)), link_word(book, ("x", 2), ("x", 1)), link_word(book, ("x", 2), ("x", 3))]
+['skip', 'drop', None]
+'''
+
+ASSIGNMENTS = '''
+>>> from beamheads.assignments import greatest_assignment, is_refusal, least_assignment, refusal
+>>> from beamheads.beams import Beam
+>>> from beamheads.books import Book
+>>> from beamheads.heads import Head
+>>> from beamheads.jobs import Job
+>>> from beamheads.lines import Line
+>>> beam = Beam(0, 20, Head("a", 1, 1, ["cut"], 2), Head("b", 1, 1, ["cut", "saw"], 1))
+>>> book = Book(beam, Job("x", "cut", Line(0, 10)), Job("y", "saw", Line(3, 9, [(2, 1)])))
+>>> [least_assignment(book), greatest_assignment(book), refusal(book)]
+[{'x': 1, 'y': 2}, {'x': 2, 'y': 2}, None]
+>>> stuck = Book(beam, Job("x", "cut", Line(0, 10)), Job("y", "cut", Line(0, 11)))
+>>> [least_assignment(stuck), is_refusal(stuck, [("x", 1), ("y", 3)]), is_refusal(stuck, [("x", 1), ("x", 2)])]
+[None, True, False]
+'''
+
 
 class TestExamples(unittest.TestCase):
 
@@ -64,6 +113,15 @@ class TestExamples(unittest.TestCase):
 
     def test_lines(self):
         self.run_example("lines", LINES)
+
+    def test_pairs(self):
+        self.run_example("pairs", PAIRS)
+
+    def test_links(self):
+        self.run_example("links", LINKS)
+
+    def test_assignments(self):
+        self.run_example("assignments", ASSIGNMENTS)
 
     def test_readme(self):
         path = pathlib.Path(__file__).resolve().parent.parent / "README.md"

@@ -9,7 +9,34 @@ FUNCTIONS = {
         "loss(beam, i, begin, j, end)", "least_route(beam, i, begin, j, end)",
         "route_sum(beam, i, begin, j, end, value)"],
     "moving": ["can_move(beam, tick, places, later, others)", "earliest_arrival(beam, tick, places, others)"],
+    "pairs": [
+        "excess(book, one, i, other, j)", "breach(book, one, i, other, j)",
+        "is_breach(book, one, i, other, j, value)", "misfit(book, name, number)", "fitting(book, name)",
+        "are_compatible(book, one, i, other, j)"],
+    "links": [
+        "is_node(book, value)", "pushed_to(book, one, i, other)", "link_word(book, node, following)",
+        "is_chain(book, value)", "links(book)"],
+    "assignments": [
+        "is_assignment(book, value)", "least_assignment(book)", "greatest_assignment(book)", "refusal(book)",
+        "is_refusal(book, value)"],
+    "motions": [
+        "lowest_places(book, assignment, tick)", "highest_places(book, assignment, tick)",
+        "lowest_of_all(book, tick)", "highest_of_all(book, tick)", "motion_rows(book, assignment, first, last)"],
+    "logs": [
+        "first_wrong_row(beam, log)", "log_fits(book, assignment, log)",
+        "lowest_with_log(book, assignment, log, tick)"],
+    "choices": [
+        "least_from(book, name, number)", "assignment_with(book, name, number)", "exclusion(book, name, number)",
+        "is_exclusion(book, name, number, value)", "surely_left(book, one, other)", "left_chains(book, one, other)",
+        "are_left_chains(book, one, other, value)", "not_left(book, one, other)"],
+    "classes": [
+        "classes(book)", "differing_classes(book, assignment, other)", "steps_between(book, assignment, other)",
+        "are_steps(book, value)"],
+    "comparing": [
+        "difference(book, other)", "is_needless(book, name)", "stuck_rest(book, name)", "blocking_jobs(book)"],
 }
+
+GENERATORS = {"links", "motion_rows"}
 
 CLASSES = {
     "heads.Head": {
@@ -72,6 +99,7 @@ class TestInterface(unittest.TestCase):
                 function = getattr(module, text.partition("(")[0])
                 self.assertEqual(written(function.__name__, function), text)
                 self.assertEqual(function.__module__, f"beamheads.{file}")
+                self.assertEqual(inspect.isgeneratorfunction(function), function.__name__ in GENERATORS)
 
     def test_classes(self):
         for name, parts in CLASSES.items():

@@ -201,6 +201,43 @@ class TestLanguage(unittest.TestCase):
     def test_properties_that_are_assigned_have_setters(self):
         self.assertEqual(barred_assignments(self.trees), [])
 
+    def test_names_of_properties_and_methods(self):
+        """No property has the name of a method, no method of a class that of an attribute of a related one."""
+        parts = [part for node in self.each(ast.ClassDef) for part in node.body if isinstance(part, ast.FunctionDef)]
+        properties = {part.name for part in parts if decorated(part, "property")}
+        methods = {part.name for part in parts if not part.decorator_list or not decorated(part, "property")
+                   and not decorated(part, "setter")}
+        self.assertEqual(properties & methods, set())
+        self.assertEqual(methods & {name for _, _, name in assigned_attributes(self.trees)}, set())
+        self.assertEqual(properties & METHODS, set())
+
+    def test_attributes_that_are_read_are_assigned(self):
+        known = {name for _, _, name in assigned_attributes(self.trees)} | METHODS | self.methods | {"setter"}
+        for node in self.each(ast.ClassDef):
+            known |= {part.targets[0].id for part in node.body if isinstance(part, ast.Assign)}
+        for node in self.each(ast.Attribute):
+            self.assertIn(node.attr, known)
+
+    def test_generators(self):
+        """Generators are iterated at once, and nothing else has their names."""
+        functions = [node for node in self.each(ast.FunctionDef)]
+        generators = {node.name for node in functions
+                      if any(isinstance(part, (ast.Yield, ast.YieldFrom)) for part in ast.walk(node))}
+        names = [node.name for node in functions]
+        self.assertEqual([name for name in generators if names.count(name) > 1], [])
+        for name, tree in self.trees.items():
+            iterated = [node.iter for node in ast.walk(tree) if isinstance(node, (ast.For, ast.comprehension))]
+            iterated += [node.args[0] for node in ast.walk(tree) if isinstance(node, ast.Call) and node.args
+                         and getattr(node.func, "id", getattr(node.func, "attr", "")) in TAKERS]
+            called = [node.func for node in iterated if isinstance(node, ast.Call)]
+            for node in ast.walk(tree):
+                if getattr(node, "id", getattr(node, "attr", "")) in generators:
+                    self.assertTrue(node in called, (name, node.lineno))
+                if isinstance(node, ast.Expr) and isinstance(node.value, (ast.Yield, ast.YieldFrom)):
+                    continue
+                for part in ast.iter_child_nodes(node):
+                    self.assertNotIsInstance(part, (ast.Yield, ast.YieldFrom))
+
 
 class TestBarredAssignments(unittest.TestCase):
     """That the check of assigned properties finds what it looks for."""

@@ -74,7 +74,7 @@ def steps_between(book, assignment, other):
     check_assignment(book, other)
     table = Table(book)
     found = find_classes(book)
-    row = [with_class(assignment, [], 1)]
+    row = [{name: assignment[name] for name in sorted(assignment)}]
     # Some step always leads nearer, so that as many steps are enough as there are classes that differ.
     while row[-1] != other:
         row.append(step_towards(table, found, row[-1], other))

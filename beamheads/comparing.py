@@ -9,7 +9,8 @@ from beamheads.tables import Table
 def telling_assignments(book):
     """The least assignment, and the least ones from all nodes; each other one is the greatest of some of these."""
     table = Table(book)
-    nodes = [(name, number) for name in book.names() for number in range(1, len(book.beam) + 1)]
+    # From the nodes with the number 1 it is the least assignment itself.
+    nodes = [(name, number) for name in book.names() for number in range(2, len(book.beam) + 1)]
     found = [Closure(table, {}).least()]
     found = found + [Closure(table, {name: number}).least() for name, number in nodes]
     return [assignment for assignment in found if assignment is not None]

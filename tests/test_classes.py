@@ -75,6 +75,10 @@ class TestClasses(ErrorCase):
         self.same(classes(EMPTY), [])
         self.same(classes(EMPTY.with_job(Job("x", "cut", Line(0, 1)))), [])
 
+    def test_sorted_by_the_first_nodes(self):
+        jobs = [Job("x", "cut", Line(0, 16)), Job("z", "cut", Line(0, 18)), Job("y", "cut", Line(50, 20))]
+        self.same(classes(Book(BEAM, *jobs)), [[("x", 2), ("z", 3)], [("y", 2)], [("y", 3)]])
+
     def test_two_nodes_of_one_job(self):
         heads = [small_head("a", speed=2), small_head("b", kinds=["saw"], speed=2), small_head("c", speed=2)]
         book = Book(Beam(0, 40, *heads), Job("x", "cut", Line(0, 16)))

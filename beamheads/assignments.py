@@ -1,19 +1,21 @@
 """Assignments: which head does which job, or a chain that tells why no heads can."""
 
 from beamheads.checks import is_integer
-from beamheads.closures import Closure
+from beamheads.closures import Closure, greatest_numbers
 from beamheads.errors import InvalidAssignment
 from beamheads.links import is_chain
-from beamheads.tables import Table
+
+
+def is_part_numbering(book, value):
+    """Whether the value is a dict from names of jobs to numbers of heads."""
+    if not isinstance(value, dict) or not all([name in book for name in value]):
+        return False
+    return all([is_integer(number) and 1 <= number <= len(book.beam) for number in value.values()])
 
 
 def is_numbering(book, value):
     """Whether the value is a dict from exactly the names of the jobs to numbers of heads."""
-    if not isinstance(value, dict) or len(value) != len(book):
-        return False
-    if not all([name in book for name in value]):
-        return False
-    return all([is_integer(number) and 1 <= number <= len(book.beam) for number in value.values()])
+    return is_part_numbering(book, value) and len(value) == len(book)
 
 
 def can_be_done(table, numbers):
@@ -29,7 +31,7 @@ def can_be_done(table, numbers):
 
 
 def is_assignment(book, value):
-    return is_numbering(book, value) and can_be_done(Table(book), value)
+    return is_numbering(book, value) and can_be_done(book.table, value)
 
 
 def check_assignment(book, value):
@@ -38,19 +40,15 @@ def check_assignment(book, value):
 
 
 def least_assignment(book):
-    return Closure(Table(book), {}).least()
+    return Closure(book.table, {}).least()
 
 
 def greatest_assignment(book):
-    # In the mirrored book the heads stand in reversed sequence, so that least and greatest are exchanged.
-    least = least_assignment(book.mirrored())
-    return None if least is None else {name: len(book.beam) + 1 - least[name] for name in least}
+    return greatest_numbers(book.table)
 
 
 def refusal(book):
-    closure = Closure(Table(book), {})
-    stuck = closure.stuck_node()
-    return closure.chain_to(stuck) if stuck else None
+    return Closure(book.table, {}).stuck_chain()
 
 
 def is_refusal(book, value):

@@ -1,8 +1,11 @@
 """Books: a beam, and jobs that are to be done on it."""
 
 from beamheads.beams import Beam
+from beamheads.courses import Course
 from beamheads.errors import InvalidBeam, InvalidJob, InvalidJobs, NameTaken, TooMany, UnknownJob
 from beamheads.jobs import Job
+from beamheads.lines import shared_ticks
+from beamheads.tables import Table
 
 
 def check_beam(beam):
@@ -42,6 +45,15 @@ class Plan:
     def jobs(self):
         return self._jobs
 
+    @property
+    def course(self):
+        return self._course
+
+    @property
+    def table(self):
+        """What the heads can do in this book: as the book does not change, it is found just once."""
+        return self._table
+
     def __len__(self):
         return len(self._jobs)
 
@@ -70,6 +82,8 @@ class Book(Plan):
         check_jobs(jobs, Book.MOST_JOBS)
         self._beam = beam
         self._jobs = sorted_jobs(jobs)
+        self._course = Course(beam)
+        self._table = Table(self._course, self._jobs)
 
     def __eq__(self, other):
         return isinstance(other, Book) and self._beam == other._beam and self._jobs == other._jobs
@@ -85,11 +99,7 @@ class Book(Plan):
         return {"first": first, "heads": counts["heads"], "jobs": counts["jobs"], "last": last}
 
     def shared(self, one, other):
-        line = self.job(one).line
-        beside = self.job(other).line
-        first = max(line.first, beside.first)
-        last = min(line.last, beside.last)
-        return (first, last) if first <= last else None
+        return shared_ticks(self.job(one).line, self.job(other).line)
 
     def with_job(self, job):
         check_new_job(self, job)

@@ -1,49 +1,78 @@
 """Bounds: how far the line of a head pushes this head, and those right of it, at other ticks."""
 
-
-def useful_ticks(beam, lines, more=()):
-    """The ticks at which something turns, ascending: corners of the lines, changes of speed, and more."""
-    ticks = [corner[0] for line in lines for corner in line.corners()]
-    changes = [change[0] for head in beam.heads for change in head.changes]
-    return sorted(set(ticks + changes + list(more)))
+from beamheads.lines import Line
 
 
-def running_greatest(values):
-    """The greatest of the first value, of the first two values, and so on."""
-    greatest = []
-    for value in values:
-        greatest.append(max(value, greatest[-1]) if greatest else value)
-    return greatest
+def ticks_on(course, line):
+    """The ticks of a line at which something turns: its corners, and the changes of speeds within it."""
+    return [corner[0] for corner in line.corners()] + course.changing_ticks(line.first, line.last)
 
 
-def passed_on(heads, row, low, high):
-    """The bounds at one end of steps in which no speed changes, from the bounds at the other end."""
-    return running_greatest([bound - (high - low) * head.speed_at(low) for bound, head in zip(row, heads)])
+def turning_ticks(course, line, other):
+    """The ticks at which one of two lines, or a speed within them, turns, ascending."""
+    return sorted(set(ticks_on(course, line) + ticks_on(course, other)))
 
 
-def one_way(heads, line, ticks):
-    """The bounds at each of these ticks, which go one way from an end of the line, by the line up to there."""
-    rows = {}
-    row = [line.at(ticks[0])] * len(heads)
-    for before, tick in zip(ticks[:1] + ticks, ticks):
-        row = passed_on(heads, row, min(before, tick), max(before, tick))
+def raised(row, many, place):
+    """The bounds, none of them less than the place; so many at the place where there are none yet."""
+    return [max(bound, place) for bound in row] if row else [place] * many
+
+
+def one_way(course, number, line, other, ticks):
+    """For each of these ticks that the other line has, by how much the bounds are beyond its place.
+
+    The ticks go one way, and the first one is a tick of the line. Between two of them nothing turns but
+    speeds away from both lines, so that no other ticks of the lines bind any more.
+    """
+    rows = []
+    row = []
+    before = None
+    for tick in ticks:
+        if before is not None:
+            row = course.passed(row, number, before, tick)
         if tick in line:
-            row = [max(bound, line.at(tick)) for bound in row]
-        rows[tick] = row
+            row = raised(row, len(course.beam) + 1 - number, line.at(tick))
+        if tick in other:
+            place = other.at(tick)
+            rows.append([bound - place for bound in row])
+        before = tick
     return rows
 
 
-def bounds_from(beam, number, line, ticks):
-    """For each tick, and each head from this number on: the greatest place of the line less the loss from it.
+def excesses(course, number, line, other):
+    """The excesses of a line by the head with this number and of another line by each head from it on."""
+    ticks = turning_ticks(course, line, other)
+    rows = one_way(course, number, line, other, [tick for tick in ticks if line.first <= tick <= other.last])
+    rows = rows + one_way(course, number, line, other,
+                          [tick for tick in ticks if other.first <= tick <= line.last][::-1])
+    # Heads that are packed have exactly their distances.
+    least = course.beam.packed()[number - 1:]
+    return [max(column) + place - least[0] for column, place in zip(zip(*rows), least)]
 
-    The ticks are ascending, and all corners of the line and all changes are among them: between two
-    of them nothing turns, so that no other tick of the line pushes any head further.
-    """
-    heads = beam.heads[number - 1:]
-    forward = one_way(heads, line, [tick for tick in ticks if tick >= line.first])
-    backward = one_way(heads, line, [tick for tick in ticks if tick <= line.last][::-1])
-    bounds = {}
-    for tick in ticks:
-        rows = [way[tick] for way in (forward, backward) if tick in way]
-        bounds[tick] = [max(pair) for pair in zip(*rows)]
-    return bounds
+
+def least_by(course, number, line, tick):
+    """The least places at a tick of the heads from this number on, if this head is on the line."""
+    return excesses(course, number, line, Line(tick, 0))
+
+
+def lowest_at(course, demands, tick):
+    """The least places at a tick in any motion that does what is demanded, as tuples (number, line)."""
+    lowest = list(course.beam.packed())
+    for number, line in demands:
+        for at, place in enumerate(least_by(course, number, line, tick)):
+            lowest[number - 1 + at] = max(lowest[number - 1 + at], place)
+    return tuple(lowest)
+
+
+def greatest_by(course, number, line, tick, other):
+    """The greatest place at a tick of the head with the other number, from which it does not push beyond the line."""
+    return -excesses(course, other, Line(tick, 0), line)[number - other]
+
+
+def highest_at(course, demands, tick):
+    """The greatest places at a tick in any motion that does what is demanded, as tuples (number, line)."""
+    highest = list(course.beam.packed(to_right=True))
+    for number, line in demands:
+        for other in range(1, number + 1):
+            highest[other - 1] = min(highest[other - 1], greatest_by(course, number, line, tick, other))
+    return tuple(highest)

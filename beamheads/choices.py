@@ -6,7 +6,6 @@ from beamheads.closures import Closure
 from beamheads.errors import NoAssignment
 from beamheads.links import is_chain
 from beamheads.pairs import check_other_job
-from beamheads.tables import Table
 
 
 def check_job_and_number(book, name, number):
@@ -33,13 +32,12 @@ def leading_chain(closure, end):
     """A chain to this node, or else beyond all heads; None if neither is reached."""
     if closure.number(end[0]) >= end[1]:
         return closure.chain_to(end)
-    stuck = closure.stuck_node()
-    return closure.chain_to(stuck) if stuck else None
+    return closure.stuck_chain()
 
 
 def least_from(book, name, number):
     check_job_and_number(book, name, number)
-    return Closure(Table(book), {name: number}).least()
+    return Closure(book.table, {name: number}).least()
 
 
 def assignment_with(book, name, number):
@@ -50,7 +48,7 @@ def assignment_with(book, name, number):
 
 def exclusion(book, name, number):
     check_job_and_number(book, name, number)
-    return leading_chain(Closure(Table(book), {name: number}), (name, number + 1))
+    return leading_chain(Closure(book.table, {name: number}), (name, number + 1))
 
 
 def is_exclusion(book, name, number, value):
@@ -60,7 +58,7 @@ def is_exclusion(book, name, number, value):
 
 def chains_or_nones(book, one, other):
     """For each number of the one job a left chain, or None where there is none."""
-    table = Table(book)
+    table = book.table
     return [leading_chain(Closure(table, {one: i}), (other, i + 1)) for i in range(1, len(book.beam) + 1)]
 
 
@@ -84,7 +82,7 @@ def are_left_chains(book, one, other, value):
 
 def not_left(book, one, other):
     check_two_jobs(book, one, other)
-    table = Table(book)
+    table = book.table
     for number in range(1, len(book.beam) + 1):
         least = Closure(table, {one: number}).least()
         if least is not None and least[one] >= least[other]:

@@ -4,7 +4,6 @@ from beamheads.assignments import can_be_done, check_assignment, greatest_assign
 from beamheads.checks import is_list
 from beamheads.closures import Closure
 from beamheads.errors import NoAssignment
-from beamheads.tables import Table
 
 
 def undecided_nodes(least, greatest):
@@ -21,7 +20,7 @@ def nodes_from(table, node, nodes):
 
 def find_classes(book):
     """The same as classes, for a book that has an assignment."""
-    table = Table(book)
+    table = book.table
     nodes = undecided_nodes(least_assignment(book), greatest_assignment(book))
     reached = {node: nodes_from(table, node, nodes) for node in nodes}
     found = []
@@ -72,7 +71,7 @@ def step_towards(table, found, assignment, other):
 def steps_between(book, assignment, other):
     check_assignment(book, assignment)
     check_assignment(book, other)
-    table = Table(book)
+    table = book.table
     found = find_classes(book)
     row = [{name: assignment[name] for name in sorted(assignment)}]
     # Some step always leads nearer, so that as many steps are enough as there are classes that differ.
@@ -82,7 +81,7 @@ def steps_between(book, assignment, other):
 
 
 def are_steps(book, value):
-    table = Table(book)
+    table = book.table
     if not is_list(value) or len(value) == 0:
         return False
     if not all([is_numbering(book, assignment) and can_be_done(table, assignment) for assignment in value]):

@@ -3,12 +3,11 @@
 from beamheads.assignments import can_be_done, least_assignment
 from beamheads.closures import Closure
 from beamheads.errors import UnlikeBooks
-from beamheads.tables import Table
 
 
 def telling_assignments(book):
     """The least assignment, and the least ones from all nodes; each other one is the greatest of some of these."""
-    table = Table(book)
+    table = book.table
     # From the nodes with the number 1 it is the least assignment itself.
     nodes = [(name, number) for name in book.names() for number in range(2, len(book.beam) + 1)]
     found = [Closure(table, {}).least()]
@@ -19,7 +18,7 @@ def telling_assignments(book):
 def missing_assignment(book, other):
     """An assignment of the book that the other one does not have, or None."""
     # If the other book has all of these, it has all greatest ones of them as well, which are all of the first one.
-    table = Table(other)
+    table = other.table
     for assignment in telling_assignments(book):
         if not can_be_done(table, assignment):
             return assignment
@@ -43,7 +42,7 @@ def can_be_completed(table, rest, name):
 
 def stuck_rest(book, name):
     rest = book.without(name)
-    table = Table(book)
+    table = book.table
     # If the job is in the way, it pushes from a node that holds to one that does not; then the latter does
     # not hold in the least assignment from the former either.
     for assignment in telling_assignments(rest):

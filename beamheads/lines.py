@@ -52,6 +52,13 @@ def corners_of(tick, place, legs):
     return tuple(corners)
 
 
+def shared_ticks(line, other):
+    """The first and the last tick that both lines have, or None."""
+    first = max(line.first, other.first)
+    last = min(line.last, other.last)
+    return (first, last) if first <= last else None
+
+
 class Line:
     """A line: its first tick and place, and legs of even speed."""
 

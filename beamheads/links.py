@@ -2,7 +2,6 @@
 
 from beamheads.checks import check_head_number, is_integer, is_list
 from beamheads.pairs import check_other_job
-from beamheads.tables import Table
 
 # The document names this limit in the words about chains.
 MOST_NODES = 400
@@ -18,17 +17,17 @@ def pushed_to(book, one, i, other):
     book.job(one)
     check_head_number(i, len(book.beam))
     check_other_job(book, one, other)
-    return Table(book).pushed_to(one, i, other)
+    return book.table.pushed_to(one, i, other)
 
 
-def word_between(table, node, following):
-    """The word of the link from a node to another one, or None."""
+def word_between(table, node, following, turn=0):
+    """The word of the link from a node to another one, so many turns later, or None."""
     name, number = node
     other, target = following
     if number == table.outside():
         return None
-    if other != name:
-        return "push" if 2 <= target <= table.pushed_to(name, number, other) else None
+    if other != name or turn != 0:
+        return "push" if 2 <= target <= table.pushed_to(name, number, other, turn) else None
     if target == number + 1 and not table.fits(name, number):
         return "skip"
     return "drop" if target == number - 1 else None
@@ -37,21 +36,24 @@ def word_between(table, node, following):
 def link_word(book, node, following):
     if not is_node(book, node) or not is_node(book, following):
         return None
-    return word_between(Table(book), node, following)
+    return word_between(book.table, node, following)
+
+
+def can_be_chain(value):
+    """Whether the value is a list with as many elements as a chain can have."""
+    return is_list(value) and 1 <= len(value) <= MOST_NODES
 
 
 def is_chain(book, value):
-    if not is_list(value) or not 1 <= len(value) <= MOST_NODES:
+    if not can_be_chain(value) or not all([is_node(book, node) for node in value]):
         return False
-    if not all([is_node(book, node) for node in value]):
-        return False
-    table = Table(book)
+    table = book.table
     words = [word_between(table, node, following) for node, following in zip(value, value[1:])]
     return None not in words
 
 
 def links(book):
-    table = Table(book)
+    table = book.table
     names = book.names()
     for name in names:
         for number in range(1, len(book.beam) + 1):

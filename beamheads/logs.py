@@ -1,11 +1,12 @@
 """Logs: rows of places that were told, and what they say about the motions of an assignment."""
 
 from beamheads.assignments import check_assignment
+from beamheads.bounds import highest_at, lowest_at
 from beamheads.checks import check_integer, is_integer, is_list
 from beamheads.errors import InvalidLog
 from beamheads.lines import Line
 from beamheads.losses import losses_from
-from beamheads.motions import demands_of, highest_at, lowest_at
+from beamheads.motions import demands_of
 
 # The document names this limit in the words about logs.
 MOST_ROWS = 40
@@ -71,8 +72,8 @@ def is_fitting(book, assignment, log):
         return False
     demands = demands_of(book, assignment)
     for tick, places in log:
-        lowest = lowest_at(book.beam, demands, tick)
-        highest = highest_at(book.beam, demands, tick)
+        lowest = lowest_at(book.course, demands, tick)
+        highest = highest_at(book.course, demands, tick)
         if not all([low <= place <= high for low, place, high in zip(lowest, places, highest)]):
             return False
     return True
@@ -95,4 +96,4 @@ def lowest_with_log(book, assignment, log, tick):
     check_integer(tick)
     if not is_fitting(book, assignment, log):
         return None
-    return lowest_at(book.beam, demands_of(book, assignment) + rows_as_demands(log), tick)
+    return lowest_at(book.course, demands_of(book, assignment) + rows_as_demands(log), tick)

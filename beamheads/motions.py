@@ -1,7 +1,7 @@
 """Motions: the lowest and the highest places that the heads have while they do their jobs."""
 
 from beamheads.assignments import check_assignment, greatest_assignment, least_assignment
-from beamheads.bounds import bounds_from, useful_ticks
+from beamheads.bounds import highest_at, lowest_at
 from beamheads.checks import check_integer
 from beamheads.errors import NoAssignment
 
@@ -11,35 +11,16 @@ def demands_of(book, assignment):
     return [(assignment[job.name], job.line) for job in book.jobs]
 
 
-def lowest_at(beam, demands, tick):
-    """The least places at a tick in any motion that does what is demanded."""
-    lowest = list(beam.packed())
-    for number, line in demands:
-        bounds = bounds_from(beam, number, line, useful_ticks(beam, [line], [tick]))[tick]
-        for ahead, bound in enumerate(bounds):
-            place = bound + beam.distance(number, number + ahead)
-            lowest[number + ahead - 1] = max(lowest[number + ahead - 1], place)
-    return tuple(lowest)
-
-
-def highest_at(beam, demands, tick):
-    """The greatest places at a tick in any motion that does what is demanded."""
-    # Mirrored, the highest places are the lowest ones, and the heads stand in reversed sequence.
-    mirrored = [(len(beam) + 1 - number, line.mirrored()) for number, line in demands]
-    lowest = lowest_at(beam.mirrored(), mirrored, tick)
-    return tuple([-place for place in lowest[::-1]])
-
-
 def lowest_places(book, assignment, tick):
     check_assignment(book, assignment)
     check_integer(tick)
-    return lowest_at(book.beam, demands_of(book, assignment), tick)
+    return lowest_at(book.course, demands_of(book, assignment), tick)
 
 
 def highest_places(book, assignment, tick):
     check_assignment(book, assignment)
     check_integer(tick)
-    return highest_at(book.beam, demands_of(book, assignment), tick)
+    return highest_at(book.course, demands_of(book, assignment), tick)
 
 
 def lowest_of_all(book, tick):
@@ -47,7 +28,7 @@ def lowest_of_all(book, tick):
     greatest = greatest_assignment(book)
     if greatest is None:
         raise NoAssignment()
-    return lowest_at(book.beam, demands_of(book, greatest), tick)
+    return lowest_at(book.course, demands_of(book, greatest), tick)
 
 
 def highest_of_all(book, tick):
@@ -55,7 +36,7 @@ def highest_of_all(book, tick):
     least = least_assignment(book)
     if least is None:
         raise NoAssignment()
-    return highest_at(book.beam, demands_of(book, least), tick)
+    return highest_at(book.course, demands_of(book, least), tick)
 
 
 def motion_rows(book, assignment, first, last):
@@ -64,4 +45,4 @@ def motion_rows(book, assignment, first, last):
     check_integer(last)
     demands = demands_of(book, assignment)
     for tick in range(first, last + 1):
-        yield (tick, lowest_at(book.beam, demands, tick))
+        yield (tick, lowest_at(book.course, demands, tick))

@@ -1,10 +1,9 @@
 """Pairs: which heads fit a job, and which heads can do two jobs."""
 
-from beamheads.bounds import useful_ticks
+from beamheads.bounds import turning_ticks
 from beamheads.checks import check_head_number, is_pair
 from beamheads.errors import SameJob
 from beamheads.losses import losses_from
-from beamheads.tables import Table
 
 
 def check_pair(book, one, i, other, j):
@@ -28,14 +27,14 @@ def value_at(book, one, i, s, other, j, t):
 
 def excess(book, one, i, other, j):
     check_pair(book, one, i, other, j)
-    return Table(book).excess(one, i, other, j)
+    return book.table.excess(one, i, other, j)
 
 
 def breach(book, one, i, other, j):
     check_pair(book, one, i, other, j)
     line = book.job(one).line
     beside = book.job(other).line
-    ticks = useful_ticks(book.beam, [line, beside])
+    ticks = turning_ticks(book.course, line, beside)
     for s in [tick for tick in ticks if tick in line]:
         for t in [tick for tick in ticks if tick in beside]:
             if value_at(book, one, i, s, other, j, t) > 0:
@@ -53,12 +52,12 @@ def is_breach(book, one, i, other, j, value):
 def misfit(book, name, number):
     book.job(name)
     check_head_number(number, len(book.beam))
-    return Table(book).misfit(name, number)
+    return book.table.misfit(name, number)
 
 
 def fitting(book, name):
     book.job(name)
-    table = Table(book)
+    table = book.table
     return [number for number in range(1, len(book.beam) + 1) if table.fits(name, number)]
 
 
@@ -67,4 +66,4 @@ def are_compatible(book, one, i, other, j):
     check_head_number(i, len(book.beam))
     check_other_job(book, one, other)
     check_head_number(j, len(book.beam))
-    return Table(book).are_compatible(one, i, other, j)
+    return book.table.are_compatible(one, i, other, j)

@@ -25,6 +25,10 @@ TAKERS = {"list", "tuple", "dict", "sorted", "sum", "any", "all", "enumerate", "
 WORDS = re.compile(r"\b(typing|typing_extensions|enum|Enum|IntEnum|Flag|Generic|Protocol|ABC|ABCMeta|namedtuple|"
                    r"NamedTuple|TypedDict|abstractmethod|_wall\w*)\b|dataclass|overload|contextmanager")
 
+# L12: names that are used otherwise, also with digits or underscores behind them, and beginnings of such names.
+BARRED_NAMES = re.compile(r"(_cold|_tuplegetter|_outside|_record|_written_out|_member_names)[0-9_]*\Z|"
+                          r"_wall|_pe_|_dcw_|_enum_|_cm_|_twin_re_|_lay_|_law_|_stub_|_sre|_WallAttr")
+
 
 def functions_of(tree):
     return [node for node in ast.walk(tree) if isinstance(node, (ast.FunctionDef, ast.Lambda))]
@@ -69,6 +73,19 @@ def assigned_attributes(trees):
 def barred_assignments(trees):
     """Where an attribute is assigned whose name is a property without a setter in some class."""
     return [found for found in assigned_attributes(trees) if found[2] in unset_properties(trees)]
+
+
+def names_in(node):
+    """The names that a node of a tree has: of a variable, function, class, parameter, method, attribute or import."""
+    found = [getattr(node, field, None) for field in ("id", "name", "arg", "attr", "asname", "rest")]
+    found += node.names if isinstance(node, (ast.Global, ast.Nonlocal)) else []
+    return [name for name in found if isinstance(name, str)]
+
+
+def barred_names(tree):
+    """Tuples (line, name) of the names that L12 bars."""
+    return sorted({(getattr(node, "lineno", 0), name) for node in ast.walk(tree) for name in names_in(node)
+                   if BARRED_NAMES.match(name)})
 
 
 class TestLanguage(unittest.TestCase):
@@ -198,6 +215,11 @@ class TestLanguage(unittest.TestCase):
                 if isinstance(part, ast.Call) and isinstance(part.func, ast.Attribute):
                     self.assertNotIn(part.func.attr, MODIFIERS)
 
+    def test_barred_names(self):
+        for name, tree in self.trees.items():
+            self.assertIsNone(BARRED_NAMES.match(name))
+            self.assertEqual(barred_names(tree), [], name)
+
     def test_properties_that_are_assigned_have_setters(self):
         self.assertEqual(barred_assignments(self.trees), [])
 
@@ -237,6 +259,32 @@ class TestLanguage(unittest.TestCase):
                     continue
                 for part in ast.iter_child_nodes(node):
                     self.assertNotIsInstance(part, (ast.Yield, ast.YieldFrom))
+
+
+class TestBarredNames(unittest.TestCase):
+    """That the check of barred names finds what it looks for."""
+
+    PLACES = ["{} = 1", "def {}(x):\n    pass", "class {}:\n    pass", "def f({}):\n    pass", "def f(*, {}=1):\n    pass",
+              "def f(*{}):\n    pass", "def f(**{}):\n    pass", "lambda {}: 1", "self.{} = 1", "x = self.{}",
+              "class A:\n    def {}(self):\n        pass", "from a import {}", "from a import b as {}", "f({}=1)",
+              "for {} in xs:\n    pass", "[{} for k in xs]", "try:\n    pass\nexcept A as {}:\n    pass",
+              "with a as {}:\n    pass", "match x:\n    case [{}, *_]:\n        pass",
+              "match x:\n    case [*{}]:\n        pass", "def f():\n    def g():\n        nonlocal {}", "({}) += 1"]
+
+    def test_each_place_of_a_name(self):
+        for place in self.PLACES:
+            for name in ("_cold", "_tuplegetter", "_outside", "_record", "_written_out", "_member_names", "_outside2",
+                         "_record_", "_cold_1_", "_pe_a", "_dcw_", "_enum_x", "_cm_a", "_twin_re_b", "_lay_c", "_law_d",
+                         "_stub_e", "_sre", "_sreads", "_WallAttr", "_wall", "_walls"):
+                found = barred_names(ast.parse(place.format(name)))
+                self.assertEqual([barred for _, barred in found], [name], place)
+
+    def test_other_names(self):
+        for place in self.PLACES:
+            for name in ("outside", "_beyond", "_outsider", "_recorded", "_colder", "cold", "_pe", "_lay", "_law", "wall",
+                         "record_2", "a_cold"):
+                self.assertEqual(barred_names(ast.parse(place.format(name))), [], place)
+        self.assertEqual(barred_names(ast.parse("x = '_outside'\n# _cold\n")), [])
 
 
 class TestBarredAssignments(unittest.TestCase):

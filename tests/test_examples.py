@@ -92,6 +92,33 @@ ASSIGNMENTS = '''
 [None, True, False]
 '''
 
+SPACES = '''
+>>> from beamheads.beams import Beam
+>>> from beamheads.books import Book
+>>> from beamheads.heads import Head
+>>> from beamheads.jobs import Job
+>>> from beamheads.lines import Line
+>>> from beamheads.spaces import beside, free_places, is_barring
+>>> beam = Beam(0, 20, Head("a", 1, 1, ["cut"], 1), Head("b", 1, 1, ["cut"], 1))
+>>> book = Book(beam, Job("x", "cut", Line(0, 10)))
+>>> [free_places(book, 1, 0), free_places(book, 1, 1), beside(book, 1, 0, 9, "x")]
+[[(1, 8), (10, 10)], [(1, 11)], (2, 1)]
+>>> [is_barring(book, 1, 0, 9, [("x", 2)]), is_barring(book, 1, 0, 9, [("x", 2), ("x", 3)])]
+[True, False]
+'''
+
+TEXTS = '''
+>>> from beamheads.beams import Beam
+>>> from beamheads.books import Book
+>>> from beamheads.heads import Head
+>>> from beamheads.jobs import Job
+>>> from beamheads.lines import Line
+>>> from beamheads.texts import book_text
+>>> beam = Beam(0, 20, Head("a", 1, 1, ["cut"], 2, [(5, 0)]), Head("b", 1, 1, ["saw", "cut"], 1))
+>>> book_text(Book(beam, Job("y", "saw", Line(3, 9, [(2, 1)])), Job("x", "cut", Line(0, 10))))
+'beam 0 20\\nhead a 1 1 2 5 0\\ndoes cut\\nhead b 1 1 1\\ndoes cut saw\\njob x cut 0 10\\njob y saw 3 9 2 1\\n'
+'''
+
 
 class TestExamples(unittest.TestCase):
 
@@ -122,6 +149,12 @@ class TestExamples(unittest.TestCase):
 
     def test_assignments(self):
         self.run_example("assignments", ASSIGNMENTS)
+
+    def test_spaces(self):
+        self.run_example("spaces", SPACES)
+
+    def test_texts(self):
+        self.run_example("texts", TEXTS)
 
     def test_readme(self):
         path = pathlib.Path(__file__).resolve().parent.parent / "README.md"

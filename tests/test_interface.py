@@ -34,6 +34,30 @@ FUNCTIONS = {
         "are_steps(book, value)"],
     "comparing": [
         "difference(book, other)", "is_needless(book, name)", "stuck_rest(book, name)", "blocking_jobs(book)"],
+    "prices": [
+        "price_of(book, prices, assignment)", "cheapest(book, prices)", "amounts_for(book, prices)",
+        "bound_of(book, prices, amounts)", "fewest_changes(book, wanted)"],
+    "limits": ["least_speed(book, *, parts=1)", "spare_room(book)"],
+    "spaces": [
+        "beside(book, number, tick, place, name)", "free_places(book, number, tick)",
+        "assignment_beside(book, number, tick, place)", "barring(book, number, tick, place)",
+        "is_barring(book, number, tick, place, value)"],
+    "turnbooks": ["turn_loss(book, i, begin, j, end)"],
+    "turnlinks": [
+        "turn_excess(book, one, i, other, j, turn)", "turn_compatible(book, one, i, other, j, turn)",
+        "turn_misfit(book, name, number)", "turn_pushed_to(book, one, i, other, turn)",
+        "is_turn_chain(book, value)"],
+    "folds": [
+        "is_repeated(book, value)", "least_repeated(book)", "greatest_repeated(book)", "turn_refusal(book)",
+        "is_turn_refusal(book, value)", "lowest_in_turns(book, assignment, tick)",
+        "highest_in_turns(book, assignment, tick)"],
+    "windows": [
+        "least_in_window(book, many)", "is_window(book, value)", "window_refusal(book, many)",
+        "is_window_refusal(book, many, value)"],
+    "texts": [
+        "beam_text(beam)", "book_text(book)", "assignment_text(assignment)", "chain_text(chain)", "read_beam(text)",
+        "read_book(text)", "read_assignment(text)", "read_chain(text)"],
+    "desk": ["tried(desk, *jobs)"],
 }
 
 GENERATORS = {"links", "motion_rows"}
@@ -83,6 +107,21 @@ CLASSES = {
             "scaled(self, *, parts=1, speed=1)"],
         "properties": [],
         "values": {"MOST_JOBS": 8}},
+    "turnbooks.TurnBook": {
+        "methods": [
+            "__init__(self, beam, period, *jobs)", "__eq__(self, other)", "__repr__(self)", "summary(self)",
+            "speed_at(self, number, step)", "copy_of(self, name, turn)", "with_job(self, job)",
+            "without(self, name)"],
+        "properties": ["period"],
+        "values": {"MOST_JOBS": 5}},
+    "desk.Desk": {
+        "methods": [
+            "__init__(self, beam, *, limit=None)", "set_limit(self, limit)", "put(self, job)", "drop(self, name)",
+            "exchange(self, head)", "undo(self)", "log(self)", "where(self, tick)", "may(self, name)",
+            "free(self, name, tick)", "trial(self)", "do(self, command)", "do_all(self, *commands)",
+            "try_all(self, *commands)"],
+        "properties": ["book", "assignment", "limit"],
+        "values": {}},
 }
 
 
@@ -127,6 +166,7 @@ class TestInterface(unittest.TestCase):
     def test_base_of_book(self):
         books = importlib.import_module("beamheads.books")
         self.assertEqual(books.Book.__bases__, (books.Plan,))
+        self.assertEqual(importlib.import_module("beamheads.turnbooks").TurnBook.__bases__, (books.Plan,))
 
 
 if __name__ == "__main__":

@@ -47,7 +47,8 @@ def excesses(course, number, line, other):
                           [tick for tick in ticks if other.first <= tick <= line.last][::-1])
     # Heads that are packed have exactly their distances.
     least = course.beam.packed()[number - 1:]
-    return [max(column) + place - least[0] for column, place in zip(zip(*rows), least)]
+    beyond = [max(column) for column in zip(*rows)]
+    return [most + place - least[0] for most, place in zip(beyond, least)]
 
 
 def least_by(course, number, line, tick):

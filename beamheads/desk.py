@@ -134,7 +134,7 @@ class Desk:
 
     @property
     def assignment(self):
-        return {name: self.state.numbers[name] for name in self.state.plan.names()}
+        return {name: self.state.numbers[name] for name in self.state.numbers}
 
     @property
     def limit(self):

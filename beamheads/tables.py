@@ -2,7 +2,6 @@
 
 from beamheads.bounds import excesses
 from beamheads.lines import shared_ticks
-from beamheads.losses import running_least
 
 
 class Table:
@@ -70,20 +69,18 @@ class Table:
         return self.excess(other, j, one, i, -turn) <= 0 and (shared is None or shared[0] == shared[1])
 
     def pushed_to(self, one, i, other, turn=0):
-        key = (one, other, turn)
+        key = (one, i, other, turn)
         if key not in self._pushes:
-            self._pushes[key] = self._find_pushes(one, other, turn)
-        return self._pushes[key][i - 1]
+            self._pushes[key] = self._find_push(one, i, other, turn)
+        return self._pushes[key]
 
-    def _find_pushes(self, one, other, turn):
-        """For each number of the one job, the least number that the other job can have by it or a greater one."""
-        least = [self._least_beside(one, i, other, turn) for i in self.head_numbers()]
-        return running_least(least[::-1])[::-1]
-
-    def _least_beside(self, one, i, other, turn):
+    def _find_push(self, one, least, other, turn):
+        """The least number that the other job can have when the one job has this number or a greater one."""
+        # Small numbers of both are often compatible, and then no other ones need be looked at.
         for j in self.head_numbers():
-            if self.are_compatible(one, i, other, j, turn):
-                return j
+            for i in range(least, self.outside()):
+                if self.are_compatible(one, i, other, j, turn):
+                    return j
         return self.outside()
 
     def forced(self, name, number):

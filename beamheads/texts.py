@@ -20,7 +20,7 @@ def written_head(head):
 
 
 def written_kinds(head):
-    return ["does", *head.kinds]
+    return ["does"] + list(head.kinds)
 
 
 def written_job(job):

@@ -35,9 +35,8 @@ class Network:
         self._start = start
         self._left = {start: {}, goal: {}}
         for node, other in most:
-            self._left.setdefault(node, {}).setdefault(other, 0)
+            self._left.setdefault(node, {})
             self._left.setdefault(other, {}).setdefault(node, 0)
-        for node, other in most:
             self._left[node][other] = most[node, other]
         self._ahead = shortest_way(self._left, start, goal)
         while goal in self._ahead:

@@ -40,7 +40,7 @@ def link_word(book, node, following):
 
 
 def can_be_chain(value):
-    """Whether the value is a list with as many elements as a chain can have."""
+    """Whether the value is a list, and as long as a chain can be."""
     return is_list(value) and 1 <= len(value) <= MOST_NODES
 
 

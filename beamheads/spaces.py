@@ -79,7 +79,6 @@ class Spot:
 
 def beside(book, number, tick, place, name):
     check_spot(book, number, tick, place)
-    book.job(name)
     return Beside(book, number, tick, name).bounds(place)
 
 

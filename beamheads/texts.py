@@ -78,7 +78,7 @@ class BeamReader:
     def _takes_head(self, words):
         # Its kinds are told by the next line only.
         head = head_of(words[1:], ["a"])
-        if words[0] != "head" or head is None or written_head(head) != words:
+        if head is None or written_head(head) != words:
             return False
         if len(self._heads) == Beam.MOST_HEADS or head.name in [other.name for other in self._heads]:
             return False
@@ -90,7 +90,7 @@ class BeamReader:
 
     def _takes_kinds(self, words):
         head = head_of(self._waiting, words[1:])
-        if words[0] != "does" or head is None or written_kinds(head) != words:
+        if head is None or written_kinds(head) != words:
             return False
         self._heads.append(head)
         self._waiting = None

@@ -9,7 +9,7 @@ from beamheads.jobs import Job
 from beamheads.lines import Line
 from beamheads.turnbooks import TurnBook
 from tests.helpers import right_places
-from tests.slow import numbers_of, step_losses, steps_between_places, ticks_of
+from tests.slow import step_losses, steps_between_places, ticks_of
 
 
 class TurnBeam:

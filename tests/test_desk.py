@@ -1,4 +1,3 @@
-import itertools
 from random import Random
 import unittest
 

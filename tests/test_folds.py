@@ -1,4 +1,3 @@
-import itertools
 from random import Random
 import unittest
 
@@ -53,6 +52,14 @@ def doubled(book):
     return TurnBook(Beam(book.beam.left, book.beam.right, *heads), 2 * period, *jobs)
 
 
+def mirrored(book):
+    return TurnBook(book.beam.mirrored(), book.period, *[job.mirrored() for job in book.jobs])
+
+
+def turned(book, numbers):
+    return {name: len(book.beam) + 1 - numbers[name] for name in numbers}
+
+
 class TestRepeated(ErrorCase):
 
     def test_against_all_dicts_and_copies_some_turns_apart(self):
@@ -75,6 +82,29 @@ class TestRepeated(ErrorCase):
             right = slow_repeated(slow)
             self.same(least_repeated(book), least_of(right, slow.names))
             self.same(greatest_repeated(book), greatest_of(right, slow.names))
+
+    def test_copies_two_turns_apart(self):
+        # All copies that are at most one turn apart are compatible, and some that are two turns apart are not.
+        books = [
+            (TurnBook(Beam(0, 12, Head("a", 1, 1, ["cut"], 2, [(1, 0)]), Head("b", 1, 1, ["cut"], 2, [(1, 1)])), 5,
+                      Job("p", "cut", Line(4, 6, [(2, -1)])), Job("q", "cut", Line(0, 3))), {"p": 2, "q": 1}),
+            (TurnBook(Beam(0, 12, Head("a", 1, 1, ["cut"], 2), Head("b", 1, 1, ["cut"], 3, [(1, 0)]),
+                           Head("c", 1, 1, ["cut"], 4, [(1, 1)])), 3,
+                      Job("p", "cut", Line(2, 3, [(2, 1)])), Job("q", "cut", Line(0, 8))), {"p": 1, "q": 3})]
+        for book, numbers in books + [(mirrored(book), turned(book, numbers)) for book, numbers in books]:
+            # The other heads do other kinds.
+            heads = [head if number in numbers.values() else Head(head.name, 1, 1, ["saw"], head.speed, head.changes)
+                     for number, head in enumerate(book.beam.heads, 1)]
+            for beam in (book.beam, Beam(book.beam.left, book.beam.right, *heads)):
+                book = TurnBook(beam, book.period, *book.jobs)
+                self.assertIn(numbers, slow_repeated(SlowTurns(book, 1)))
+                slow = SlowTurns(book, 4)
+                right = slow_repeated(slow)
+                self.same(is_repeated(book, numbers), False)
+                self.same(least_repeated(book), least_of(right, slow.names))
+                self.same(greatest_repeated(book), greatest_of(right, slow.names))
+                self.assertEqual(turn_refusal(book) is None, right != [])
+                self.assertTrue(right or slow.is_refusal(turn_refusal(book)))
 
     def test_in_numbers(self):
         self.same([least_repeated(BOOK), greatest_repeated(BOOK)], [{"x": 2, "y": 2}] * 2)
@@ -212,14 +242,28 @@ class TestPlaces(ErrorCase):
             book = some_done_turn_book(random, heads=random.randint(1, 2), most_room=random.choice([2, 5]),
                                        fastest=random.choice([1, 2]))
             for numbers in slow_repeated(SlowTurns(book, 2))[:2]:
-                first, last = -4 * book.period, 5 * book.period
-                possible = places_in_turns(book, numbers, first - 9, last + 9)
-                for tick in range(0, 2 * book.period):
-                    columns = list(zip(*possible[tick]))
-                    self.same(lowest_in_turns(book, numbers, tick), tuple(map(min, columns)))
-                    self.same(highest_in_turns(book, numbers, tick), tuple(map(max, columns)))
-                    checked += 1
-        self.assertGreater(checked, 300)
+                self.check_places(book, numbers)
+                checked += 1
+        self.assertGreater(checked, 50)
+
+    def test_what_the_copies_near_a_tick_bind(self):
+        # At a tick within a line the copy before it binds as well: the other head is slower, or comes from further.
+        books = [
+            (TurnBook(Beam(0, 12, Head("a", 1, 1, ["cut"], 1, [(3, 3), (4, 2)]), Head("b", 1, 1, ["cut"], 3)), 5,
+                      Job("p", "cut", Line(2, 9, [(3, -2)]))), {"p": 2}),
+            (TurnBook(Beam(0, 12, Head("a", 1, 1, ["cut"], 3), Head("b", 1, 1, ["cut"], 2, [(1, 0)]),
+                           Head("c", 1, 1, ["cut"], 0, [(1, 4)])), 2,
+                      Job("p", "cut", Line(0, 11)), Job("q", "cut", Line(0, 6, [(1, 1)]))), {"p": 3, "q": 1})]
+        for book, numbers in books + [(mirrored(book), turned(book, numbers)) for book, numbers in books]:
+            self.check_places(book, numbers)
+
+    def check_places(self, book, numbers):
+        """The lowest and highest places of two turns, against all motions of some more turns."""
+        possible = places_in_turns(book, numbers, -4 * book.period - 9, 5 * book.period + 9)
+        for tick in range(0, 2 * book.period):
+            columns = list(zip(*possible[tick]))
+            self.same(lowest_in_turns(book, numbers, tick), tuple(map(min, columns)))
+            self.same(highest_in_turns(book, numbers, tick), tuple(map(max, columns)))
 
     def test_the_rows_are_a_motion(self):
         random = Random(852)

@@ -136,6 +136,8 @@ class TestSpareRoom(ErrorCase):
             for changed in (book.later(-FAR), book.moved(9), book.backward()):
                 self.same(spare_room(changed), wanted)
                 self.same(least_speed(changed), least_speed(book))
+            for more in {0, min(1, wanted), wanted}:
+                self.same(spare_room(book.wider(more)), wanted - more)
             self.same(spare_room(book.scaled(parts=3, speed=3)) // 3, wanted)
             self.same(least_speed(book.mirrored()), least_speed(book))
 
